@@ -9,6 +9,7 @@ import (
 
 	"salvor/api"
 	"salvor/arg"
+	"salvor/spare"
 )
 
 func o(key, val string) api.Opt { return api.Opt{Key: key, Val: val} }
@@ -587,24 +588,11 @@ func TestWordsAllShort(t *testing.T) {
 	})
 }
 
-// roomy is l with room behind it that is not to be read or written.
-func roomy[T any](l []T, spare T) []T {
-	room := append(slices.Clone(l), spare, spare, spare)
-	return room[:len(l)]
-}
-
-// spoil writes over a list and its spare room.
-func spoil[T any](l []T, with T) {
-	for i := range l[:cap(l)] {
-		l[:cap(l)][i] = with
-	}
-}
-
 // R2, R5: nothing of what is handed in is changed, and what stands behind it is not read.
 func TestArgumentsStay(t *testing.T) {
-	check := func(name string, l []string, spare string, call func(l ...string)) {
+	check := func(name string, l []string, behind string, call func(l ...string)) {
 		t.Helper()
-		room := roomy(l, spare)
+		room := spare.Behind(l, behind, behind, behind)
 		before := slices.Clone(room[:cap(room)])
 		if call(room...); !slices.Equal(room[:cap(room)], before) {
 			t.Errorf("%s: the arguments are %q now", name, room[:cap(room)])
@@ -631,7 +619,7 @@ func TestArgumentsStay(t *testing.T) {
 			t.Error("Only reads keys behind the last one")
 		}
 	})
-	room := roomy(opts, o("c", "3"))
+	room := spare.Behind(opts, o("c", "3"), o("c", "3"), o("c", "3"))
 	before := slices.Clone(room[:cap(room)])
 	if val, ok := arg.Find(room, "c"); val != "" || ok || !arg.Only(room, "a", "b") {
 		t.Error("what is behind the list is read")
@@ -645,11 +633,11 @@ func TestArgumentsStay(t *testing.T) {
 func TestAnswersAreNew(t *testing.T) {
 	for _, q := range [][]string{{"a=1"}, {"a=1", "b=2"}, {"conv=a", "conv=b", "conv=c"}, {"a=1", "b=1", "c=1", "d=1", "e=1"}} {
 		want, _ := wantOperands(q)
-		in := roomy(q, "")
+		in := spare.Behind(q, "", "", "")
 		first, _ := arg.Operands(in...)
 		second, _ := arg.Operands(in...)
-		spoil(in, "spoiled")
-		if spoil(first, o("spoiled", "")); !slices.Equal(second, want) {
+		spare.Spoil(in, "spoiled")
+		if spare.Spoil(first, o("spoiled", "")); !slices.Equal(second, want) {
 			t.Errorf("%q: an answer is %q now", q, second)
 		}
 		if third, ok := arg.Operands(q...); !ok || !slices.Equal(third, want) {
@@ -658,16 +646,16 @@ func TestAnswersAreNew(t *testing.T) {
 	}
 	for _, q := range [][]string{{"a"}, {"--", "a", "b"}, {"a", "--", "-r", "b", "c"}, {"-n", "1", "a", "--long=2", "b"}, {"-rrr", "a", "b", "c", "-rr", "d", "e"}, {"-rrrr", "-n1"}} {
 		want, _ := wantFlags("rn:", q)
-		in := roomy(q, "")
+		in := spare.Behind(q, "", "", "")
 		first, _ := arg.Flags("rn:", in...)
 		second, _ := arg.Flags("rn:", in...)
 		kept := slices.Clone(in[:cap(in)])
-		spoil(first.Rest, "spoiled")
+		spare.Spoil(first.Rest, "spoiled")
 		if !slices.Equal(first.Opts, want.Opts) || !slices.Equal(in[:cap(in)], kept) {
 			t.Errorf("%q: Rest shares: %q, %q", q, first.Opts, in[:cap(in)])
 		}
-		spoil(first.Opts, o("spoiled", ""))
-		spoil(in, "spoiled")
+		spare.Spoil(first.Opts, o("spoiled", ""))
+		spare.Spoil(in, "spoiled")
 		if !slices.Equal(second.Opts, want.Opts) || !slices.Equal(second.Rest, want.Rest) {
 			t.Errorf("%q: an answer is %q now", q, second)
 		}
@@ -677,7 +665,7 @@ func TestAnswersAreNew(t *testing.T) {
 	}
 	for _, s := range []string{"", "a", "a,b", "a,b,c", ",,,,"} {
 		first, second := arg.Words(s, ','), arg.Words(s, ',')
-		if spoil(first, "spoiled"); !slices.Equal(second, strings.Split(s, ",")) {
+		if spare.Spoil(first, "spoiled"); !slices.Equal(second, strings.Split(s, ",")) {
 			t.Errorf("Words(%q) is %q now", s, second)
 		}
 	}

@@ -8,6 +8,7 @@ import (
 
 	"salvor/api"
 	"salvor/disk"
+	"salvor/spare"
 )
 
 // counted is n bytes that tell their places: none is 0, and a run of them taken from elsewhere is another one.
@@ -650,29 +651,13 @@ func TestTwoOfOneDevice(t *testing.T) { // P10.1, P10.2, R2
 	checkGet(t, f, 0, 16, all[:3], api.OK)
 }
 
-// roomy is l with room behind it that is not to be read or written.
-func roomy[T any](l []T, spare ...T) []T {
-	room := append(slices.Clone(l), spare...)
-	return room[:len(l)]
-}
-
-// spoil writes over a list and its spare room.
-func spoil[T any](l []T, with T) {
-	for i := range l[:cap(l)] {
-		l[:cap(l)][i] = with
-	}
-}
-
-// whole is a list with its spare room, in memory of its own.
-func whole[T any](l []T) []T { return slices.Clone(l[:cap(l)]) }
-
 // roomyDevice is x with spare room that would change it, were it read.
 func roomyDevice(x api.Device) api.Device {
 	return api.Device{
-		Data:   roomy(x.Data, 91, 92, 93),
-		Bad:    roomy(x.Bad, 0, -1, 1),
-		Soft:   roomy(x.Soft, soft(0, 1), soft(1, 21), soft(-1, 1)),
-		Shorts: roomy(x.Shorts, 1, 2, 3),
+		Data:   spare.Behind(x.Data, 91, 92, 93),
+		Bad:    spare.Behind(x.Bad, 0, -1, 1),
+		Soft:   spare.Behind(x.Soft, soft(0, 1), soft(1, 21), soft(-1, 1)),
+		Shorts: spare.Behind(x.Shorts, 1, 2, 3),
 	}
 }
 
@@ -683,7 +668,7 @@ func TestWhatIsHandedInStays(t *testing.T) { // R2, R5
 		{Data: counted(8192), Bad: []int{900, 3, 3}, Soft: []api.Soft{soft(7, 20), soft(7, 20), soft(8000, 1)}, Shorts: []int{4096}},
 	} {
 		x := roomyDevice(q)
-		data, bad, softs, shorts := whole(x.Data), whole(x.Bad), whole(x.Soft), whole(x.Shorts)
+		data, bad, softs, shorts := spare.Whole(x.Data), spare.Whole(x.Bad), spare.Whole(x.Soft), spare.Whole(x.Shorts)
 		if !disk.May(x) {
 			t.Fatal("what stands behind the lists is read")
 		}
@@ -692,7 +677,7 @@ func TestWhatIsHandedInStays(t *testing.T) { // R2, R5
 		for pos := -1; pos < len(q.Data)+40; pos += 3 {
 			same(t, d, m, pos, 4096)
 		}
-		if !bytes.Equal(whole(x.Data), data) || !slices.Equal(whole(x.Bad), bad) || !slices.Equal(whole(x.Soft), softs) || !slices.Equal(whole(x.Shorts), shorts) {
+		if !bytes.Equal(spare.Whole(x.Data), data) || !slices.Equal(spare.Whole(x.Bad), bad) || !slices.Equal(spare.Whole(x.Soft), softs) || !slices.Equal(spare.Whole(x.Shorts), shorts) {
 			t.Error("what was handed in is changed")
 		}
 	}
@@ -703,10 +688,10 @@ func TestWhatIsHandedInIsNotKept(t *testing.T) { // R2
 	x := roomyDevice(q)
 	d, m := disk.New(x), &model{d: copied(q)}
 	change := func(data byte, bad int, s api.Soft, short int) {
-		spoil(x.Data, data)
-		spoil(x.Bad, bad)
-		spoil(x.Soft, s)
-		spoil(x.Shorts, short)
+		spare.Spoil(x.Data, data)
+		spare.Spoil(x.Bad, bad)
+		spare.Spoil(x.Soft, s)
+		spare.Spoil(x.Shorts, short)
 		checkLong(t, d, 21)
 	}
 	change(0, 0, soft(0, 9), 1)
@@ -734,11 +719,11 @@ func TestAnswersAreNew(t *testing.T) { // R2
 		if code != api.OK || !bytes.Equal(b, all[q.pos:][:q.want]) {
 			t.Fatalf("Get(%d, %d) is %v, %d", q.pos, q.n, b, code)
 		}
-		spoil(b[len(b):], 99)
+		spare.Spoil(b[len(b):], 99)
 		answers, wants = append(answers, b), append(wants, slices.Clone(b))
 	}
 	for i, b := range answers {
-		spoil(b, 99)
+		spare.Spoil(b, 99)
 		for j := i + 1; j < len(answers); j++ {
 			if !bytes.Equal(answers[j], wants[j]) {
 				t.Fatalf("answer %d changes with answer %d", j, i)

@@ -10,6 +10,7 @@ import (
 
 	"salvor/api"
 	"salvor/extent"
+	"salvor/spare"
 )
 
 const (
@@ -949,25 +950,9 @@ func TestSeekBehindHistories(t *testing.T) { // P11.2, P11.4
 	on(api.Content{}, model{}, 4)
 }
 
-// roomy is l with room behind it that is not to be read or written.
-func roomy[T any](l []T, spare ...T) []T {
-	room := append(slices.Clone(l), spare...)
-	return room[:len(l)]
-}
-
-// spoil writes over a list and its spare room.
-func spoil[T any](l []T, with T) {
-	for i := range l[:cap(l)] {
-		l[:cap(l)][i] = with
-	}
-}
-
-// whole is a list with its spare room, in memory of its own.
-func whole[T any](l []T) []T { return slices.Clone(l[:cap(l)]) }
-
 // handed is a file whose list has spare room in which there is more, and such as may not be.
 func handed() api.Content {
-	return content(21, roomy([]api.Ext{full(0), ext(2, marks(16, 5)...), ext(4)}, ext(5, 1), ext(1), ext(-1, 9), full(6))...)
+	return content(21, spare.Behind([]api.Ext{full(0), ext(2, marks(16, 5)...), ext(4)}, ext(5, 1), ext(1), ext(-1, 9), full(6))...)
 }
 
 // menu is changes of each kind for handed, and such as leave it as it is.
@@ -990,15 +975,15 @@ func modelOfHanded() model {
 func TestWhatIsHandedInStays(t *testing.T) { // R2, R5
 	for i := range menu([]byte{1, 2, 3}) {
 		c := handed()
-		b := roomy([]byte{1, 2, 3}, 91, 92, 93)
-		room, bytesRoom := whole(c.L), whole(b)
+		b := spare.Behind([]byte{1, 2, 3}, 91, 92, 93)
+		room, bytesRoom := spare.Whole(c.L), spare.Whole(b)
 		q := menu(b)[i]
 		m := modelOfHanded()
 		ok := q.model(&m)
 		got, gotOK := q.real(c)
 		judge(t, c, strconv.Itoa(i), got, gotOK, m, ok)
-		spoil(got.L, ext(77, 99))
-		if c.Size != 21 || !slices.Equal(whole(c.L), room) || !bytes.Equal(whole(b), bytesRoom) {
+		spare.Spoil(got.L, ext(77, 99))
+		if c.Size != 21 || !slices.Equal(spare.Whole(c.L), room) || !bytes.Equal(spare.Whole(b), bytesRoom) {
 			t.Errorf("%d: what was handed in is changed", i)
 		}
 	}
@@ -1006,7 +991,7 @@ func TestWhatIsHandedInStays(t *testing.T) { // R2, R5
 
 func TestAskingChangesNothing(t *testing.T) { // R2, R5
 	c := handed()
-	room := whole(c.L)
+	room := spare.Whole(c.L)
 	if !extent.May(c) || !extent.Same(c, handed()) || !extent.Same(c, content(21, slices.Clone(c.L)...)) {
 		t.Error("what stands behind the list is read")
 	}
@@ -1017,9 +1002,9 @@ func TestAskingChangesNothing(t *testing.T) { // R2, R5
 		if !bytes.Equal(b, m.read(pos, 50)) {
 			t.Errorf("Read(%d, 50) is %v", pos, b)
 		}
-		spoil(b, 99)
+		spare.Spoil(b, 99)
 	}
-	if !slices.Equal(whole(c.L), room) {
+	if !slices.Equal(spare.Whole(c.L), room) {
 		t.Error("what was handed in is changed")
 	}
 }
@@ -1027,14 +1012,14 @@ func TestAskingChangesNothing(t *testing.T) { // R2, R5
 func TestWhatIsHandedInIsNotKept(t *testing.T) { // R2
 	for i := range menu([]byte{1, 2, 3}) {
 		c := handed()
-		b := roomy([]byte{1, 2, 3}, 91, 92, 93)
+		b := spare.Behind([]byte{1, 2, 3}, 91, 92, 93)
 		q := menu(b)[i]
 		m := modelOfHanded()
 		ok := q.model(&m)
 		got, gotOK := q.real(c)
 		read := extent.Read(c, 0, 21)
-		spoil(c.L, ext(77, 99))
-		spoil(b, 99)
+		spare.Spoil(c.L, ext(77, 99))
+		spare.Spoil(b, 99)
 		judge(t, c, strconv.Itoa(i)+" behind a change of what was handed in", got, gotOK, m, ok)
 		first := modelOfHanded()
 		if !bytes.Equal(read, first.read(0, 21)) {
@@ -1059,17 +1044,17 @@ func TestAnswersAreNew(t *testing.T) { // R2
 			what := strconv.Itoa(i) + " and " + strconv.Itoa(j)
 			read := extent.Read(a, 0, 64)
 			again := extent.Read(a, 0, 64)
-			spoil(read, 99)
+			spare.Spoil(read, 99)
 			judge(t, c, what+" behind a change of what was read", a, true, x, true)
 			if !bytes.Equal(again, x.read(0, 64)) {
 				t.Errorf("%s: one that was read changes the other", what)
 			}
-			spoil(a.L, ext(77, 99))
+			spare.Spoil(a.L, ext(77, 99))
 			judge(t, c, what+" behind a change of the first answer", b, true, y, true)
 			judge(t, c, what+", of one another", d, true, z, true)
-			spoil(b.L, ext(78, 98))
+			spare.Spoil(b.L, ext(78, 98))
 			judge(t, c, what+" behind a change of the second one, too", d, true, z, true)
-			spoil(d.L, ext(79, 97))
+			spare.Spoil(d.L, ext(79, 97))
 			if !alike(c, handed()) {
 				t.Fatalf("%s: what was handed in changes with an answer", what)
 			}
