@@ -991,16 +991,6 @@ func wholly(i api.Image) api.Image {
 	return out
 }
 
-// ruin writes over all of an image and all its spare room, down to the blocks.
-func ruin(i api.Image) {
-	nodes := i.Nodes[:cap(i.Nodes)]
-	for _, n := range nodes {
-		spare.Spoil(n.C.L, ext(77, 99))
-	}
-	spare.Spoil(i.Nodes, node(88, content(5, ext(3))))
-	spare.Spoil(i.Names, name("ruin", 88))
-}
-
 // withRoom is i with spare room in each of its lists, in which there is more, and such as may not be.
 func withRoom(i api.Image) api.Image {
 	i.Names = spare.Behind(i.Names, name("h", 11), name("a", 1), name("", 0), name("z", 12))
@@ -1054,8 +1044,8 @@ func TestWhatIsHandedInStays(t *testing.T) { // R2, R5
 			image.Same(i, i)
 			c, _ := image.Get(i, 9)
 			spare.Spoil(c.L, ext(77, 99))
-			ruin(got)
-			ruin(all)
+			spare.Ruin(got)
+			spare.Ruin(all)
 			if !alike(wholly(i), was) || !slices.Equal(spare.Whole(o.B), wasB) {
 				t.Fatalf("%v: what was handed in is changed", o)
 			}
@@ -1096,7 +1086,7 @@ func TestWhatIsHandedInIsNotKept(t *testing.T) { // R2
 			want := wanted(some()[k], o)
 			got, all, none := image.Apply(i, o), image.All(i, list...), image.All(i)
 			c, ok := image.Get(i, 9)
-			ruin(i)
+			spare.Ruin(i)
 			spare.Spoil(o.B, 99)
 			spare.Spoil(list, removing("b"))
 			check(t, o, got, want)
@@ -1109,27 +1099,11 @@ func TestWhatIsHandedInIsNotKept(t *testing.T) { // R2
 	}
 }
 
-// apart tells whether no two lists of i share any memory, spare room, too.
-func apart(i api.Image) bool {
-	nodes := i.Nodes[:cap(i.Nodes)]
-	for k, n := range nodes {
-		spare.Spoil(n.C.L, ext(k))
-	}
-	for k, n := range nodes {
-		for _, e := range n.C.L[:cap(n.C.L)] {
-			if e.No != k {
-				return false
-			}
-		}
-	}
-	return true
-}
-
 func TestListsOfAnAnswerAreApart(t *testing.T) { // R2
 	for _, i := range some() {
 		for _, o := range menu() {
 			for _, p := range menu() {
-				if !apart(image.All(i, o, p)) {
+				if !spare.Apart(image.All(i, o, p)) {
 					t.Fatalf("%v and %v: two lists share memory", o, p)
 				}
 			}
@@ -1146,15 +1120,15 @@ func TestAnswersAreNew(t *testing.T) { // R2
 				wantD := wanted(wantA, p)
 				a, b := image.Apply(i, o), image.Apply(i, p)
 				d, e := image.Apply(a, p), image.All(a)
-				ruin(a)
+				spare.Ruin(a)
 				check(t, "the second one", b, wantB)
 				check(t, "one of another", d, wantD)
 				check(t, "one of no change", e, wantA)
-				ruin(e)
+				spare.Ruin(e)
 				check(t, "the second one, again", b, wantB)
-				ruin(b)
+				spare.Ruin(b)
 				check(t, "one of another, again", d, wantD)
-				ruin(d)
+				spare.Ruin(d)
 				if !alike(i, some()[k]) {
 					t.Fatalf("%v and %v: what was handed in changes with an answer", o, p)
 				}
